@@ -1,0 +1,1 @@
+"""Allsorts: sayings of many sorts, decided."""
