@@ -165,7 +165,8 @@ def odd_things():
              ("call", rude, (X,), "num"), ("call", "f", (X,), rude), [rude], {"x": rude}]
     plain = [None, True, False, 0, 1, -1, 10 ** 900, 0.5, float("nan"), 1j, "", "x", "and", "x" * 10 ** 6, b"name",
              [], {}, set(), frozenset(), object(), Exception("x"), Rude, len, lambda: None, range(3), Ellipsis,
-             NotImplemented, iter(()), (None,), (True,), (1,), ("",), ("x" * 10 ** 6,), ([],), ((),), ("name" * 10 ** 5,),
+             NotImplemented, iter(()), (None,), (True,), (1,), ("",), ("x" * 10 ** 6,), ([],), ((),),
+             ("name" * 10 ** 5,),
              ["name", "x", "num"], ["prop", "p"], ["and", ()], {"name": "x"}, {"name", "x"}, bytearray(b"x"),
              ("Name", "x", "num"), (b"name", "x", "num"), (b"prop", "p"), ("part", 0), (0, "x", "num"),
              (("name", "x", "num"),), ("and", (P,) * 10 ** 5), ("call", "f", (X,) * 10 ** 5, "num")]
@@ -175,3 +176,36 @@ def odd_things():
 def wrong_things():
     """All of them: none is a name, a term or a saying, but "x", "and" and the like that are names."""
     return odd_things() + deep_things() + shared_things() + things_within_themselves()
+
+
+def tree_of(deep):
+    """A VALUE of "tree" that is so deep, of twice as many tips and nodes, less one."""
+    tree = ("tip", (0, 1))
+    for _ in range(deep - 1):
+        tree = ("node", ("tip", (1, 2)), tree)
+    return tree
+
+
+def full_tree(deep):
+    """A tree of 2 ** deep - 1 tips and nodes, both sides of each node the very same thing."""
+    tree = ("tip", (3, 1))
+    for _ in range(deep - 1):
+        tree = ("node", tree, tree)
+    return tree
+
+
+def wrong_values():
+    """Things that are no VALUE of any SORT."""
+    ring = []
+    ring.append(("node", ring, ring))
+    trees = [("tip",), ("tip", 0), ("tip", (0, 2)), ("tip", [0, 1]), ["tip", (0, 1)], ("tip", (0, 1), (0, 1)),
+             ("tip", (True, 1)),
+             ("node", ("tip", (0, 1))), ("node", ("tip", (0, 1)), ("tip", (2, 4))), ("node", ("tip", (0, 1)), None),
+             ("node",) + (("tip", (0, 1)),) * 3, tree_of(41), full_tree(10), full_tree(40), ring, ring[0],
+             ("leaf", (0, 1)), ("leaf", ("tip", (0, 1)), ("tip", (0, 1))), ("node", ring, ("tip", (0, 1)))]
+    numbers = [(1,), (1, 1, 1), (1, 0), (1, -1), (-1, -2), (2, 4), (0, 2), (0, -1), (True, 1), (1, True), (1.0, 1),
+               ("1", "1"),
+               [1, 2], (1, None), (10, 5)]
+    sets = [((1, 1), (1, 1)), ((2, 1), (1, 1)), ((1, 2), (1, 3)), ((0, 1), 1), ((0, 1), None), ((0, 2),), [(0, 1)],
+            ((0, 1), [1, 1]), ((-1, 2), (-2, 3)), ((0, 1),) * 10 ** 5]
+    return trees + numbers + sets + [-1, True, False, None, 1.0, "0", b"0"]

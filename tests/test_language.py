@@ -13,6 +13,10 @@ IndexError LookupError ZeroDivisionError ArithmeticError OverflowError RuntimeEr
 StopIteration NotImplemented property staticmethod classmethod super""".split())
 LIBRARY = {"heapq", "math", "itertools", "collections", "__future__"}
 FUNCTIONS = (ast.FunctionDef, ast.Lambda)
+METHODS = set("""append clear copy count endswith extend find get index insert isalnum isalpha isdigit islower isspace
+isupper items join keys ljust lower lstrip partition pop remove replace reverse rfind rjust rpartition rsplit rstrip
+setdefault split splitlines startswith strip update upper values zfill bit_length""".split())
+OF_BUILTINS = {name for thing in ("", 0, [], {}, set(), b"", ()) for name in dir(thing)}
 
 
 class LanguageTest(unittest.TestCase):
@@ -56,6 +60,67 @@ class LanguageTest(unittest.TestCase):
                 if isinstance(node, FUNCTIONS):
                     taken = [argument.arg for argument in ast.walk(node.args) if isinstance(argument, ast.arg)]
                     self.assertFalse([word for word in taken if hasattr(builtins, word)], name)
+
+    def test_methods(self):
+        own, stored = {"__init__"}, set()
+        for _, tree in self.trees():
+            for node in ast.walk(tree):
+                if isinstance(node, ast.ClassDef):
+                    own |= {part.name for part in node.body if isinstance(part, ast.FunctionDef)}
+                if isinstance(node, ast.Attribute) and isinstance(node.ctx, ast.Store):
+                    stored.add(node.attr)
+        self.assertEqual(own & stored, set())
+        self.assertEqual({name for name in own | stored if name in OF_BUILTINS and not name.startswith("__")}, set())
+        for name, tree in self.trees():
+            for node in ast.walk(tree):
+                if isinstance(node, ast.Call) and isinstance(node.func, ast.Attribute):
+                    self.assertIn(node.func.attr, METHODS | own, (name, node.lineno))
+
+    def test_statements_and_expressions(self):
+        for name, tree in self.trees():
+            for node in ast.walk(tree):
+                # With an __eq__ in the package any, all, sorted and their like take lists.
+                self.assertNotIsInstance(node, (ast.GeneratorExp, ast.Yield, ast.Try, ast.Global,
+                                                ast.AsyncFunctionDef), name)
+                if isinstance(node, ast.Compare):
+                    for sign, other in zip(node.ops, node.comparators):
+                        if isinstance(sign, (ast.Is, ast.IsNot)):
+                            self.assertTrue(isinstance(other, ast.Constant) and other.value in (None, True, False),
+                                            name)
+                if isinstance(node, ast.BinOp):
+                    self.assertNotIsInstance(node.op, (ast.Div, ast.Pow, ast.Mod), (name, node.lineno))
+
+    def test_no_name_of_a_class_or_an_import_is_given_to_something_else(self):
+        for name, tree in self.trees():
+            taken = {node.name for node in tree.body if isinstance(node, ast.ClassDef)}
+            for node in tree.body:
+                taken |= {part.asname or part.name for part in node.names} if isinstance(node,
+                                                                                         ast.ImportFrom) else set()
+            for node in ast.walk(tree):
+                if isinstance(node, ast.Name) and isinstance(node.ctx, ast.Store):
+                    self.assertNotIn(node.id, taken, (name, node.lineno))
+                if isinstance(node, ast.arg):
+                    self.assertNotIn(node.arg, taken, (name, node.lineno))
+
+    def test_no_two_files_import_from_each_other(self):
+        needs = {}
+        for name, tree in self.trees():
+            modules = {node.module for node in ast.walk(tree) if isinstance(node, ast.ImportFrom)}
+            needs[f"allsorts.{name[:-3]}"] = {module for module in modules if module.startswith("allsorts.")}
+        while any(not wanted & set(needs) for wanted in needs.values()):
+            needs = {name: wanted for name, wanted in needs.items() if wanted & set(needs)}
+        self.assertEqual(needs, {})
+
+    def test_what_stands_at_module_level_is_only_read(self):
+        """A list or a dict there is indexed, gone through, measured or asked with `in`, not handed on."""
+        for name, tree in self.trees():
+            tables = {node.targets[0].id for node in tree.body
+                      if isinstance(node, ast.Assign) and isinstance(node.value, (ast.List, ast.Dict))}
+            for node in ast.walk(tree):
+                if isinstance(node, ast.Call):
+                    handed = [part.id for part in node.args if isinstance(part, ast.Name)]
+                    if not (isinstance(node.func, ast.Name) and node.func.id in ("len", "sorted", "list", "dict")):
+                        self.assertFalse(tables & set(handed), (name, node.lineno))
 
     def test_no_percent_sign_and_no_number_with_a_point(self):
         for name, tree in self.trees():
