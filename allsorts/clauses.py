@@ -111,20 +111,12 @@ def must_be_lot(thing):
         raise BadValue("lot")
 
 
-def rising_of_atoms(literals):
-    """A list or a tuple of LITERALS of ATOMS, as a tuple, rising, each once; refuses whatever else."""
-    keys = literal_keys(literals)
-    if keys is None or not all([key[0] == 1 for key in keys]):
-        raise BadValue("literals")
-    return rising_by(keys, literals)
-
-
 def lot_of(literals):
     """The LOT of a list or a tuple of LITERALS of ATOMS, some perhaps twice, no two OPPOSED; refuses whatever else."""
-    lot = rising_of_atoms(literals)
-    if have_opposed(literal_keys(lot)):
+    keys = literal_keys(literals)
+    if keys is None or not all([key[0] == 1 for key in keys]) or have_opposed(sorted(set(keys))):
         raise BadValue("literals")
-    return lot
+    return rising_by(keys, literals)
 
 
 class Numbering:

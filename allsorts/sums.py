@@ -4,7 +4,7 @@ What a literal tells of a sum is called so: "zero", "most" (at most 0), "below" 
 """
 
 from allsorts.chains import is_number
-from allsorts.clauses import lot_of, must_be_lot, rising_of_atoms
+from allsorts.clauses import lot_of, must_be_lot
 from allsorts.errors import BadValue
 from allsorts.finding import Finding
 from allsorts.ratios import ZERO, is_below, product_of, sum_of
@@ -68,7 +68,7 @@ def linear(term):
 
 def number_values(literals):
     """A list of pairs (UNKNOWN, FRACTION), by which all literals that tell of sums hold; None if there is none."""
-    lot = [literal for literal in rising_of_atoms(literals) if is_of_sums(literal[0])]
+    lot = [literal for literal in lot_of(literals) if is_of_sums(literal[0])]
     finding, unknowns = finding_of(lot)
     numbers = finding.look_for()
     if numbers is None:

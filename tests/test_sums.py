@@ -243,10 +243,17 @@ class SumsTest(unittest.TestCase):
         lot, _ = refute_sums(others + [most(n(1), n(0))])
         self.assertEqual(lot, (most(n(1), n(0)),))
 
-    def test_opposed_ones_cannot_hold(self):
-        self.assertIsNone(number_values([most(X, Y), most(X, Y, False)]))
-        self.assertIsNone(number_values([same(X, Y), same(X, Y, False)]))
-        self.assertEqual(number_values([(P, True), (P, False)]), [])
+    def test_opposed_ones_are_refused(self):
+        for atom in (most(X, Y)[0], same(X, Y)[0], P, ("in", X, S)):
+            for more in ([], [same(X, Z)], [same(X, Z), same(X, Z)]):
+                for literals in ([(atom, True)] + more + [(atom, False)], ((atom, False), *more, (atom, True))):
+                    for function in (number_values, refute_sums):
+                        with self.assertRaises(BadValue) as caught:
+                            function(literals)
+                        self.assertEqual(caught.exception.what, "literals")
+                        with self.assertRaises(BadValue) as caught:
+                            function(literals=literals)
+                        self.assertEqual(caught.exception.what, "literals")
 
     def test_some_twice_and_in_any_order(self):
         literals = [same(X, Y, False), most(X, Y), most(Y, Z, False), same(Z, n(2)), (P, True)]
