@@ -162,15 +162,18 @@ class Numbering:
             rows.extend(each + all_of if is_and else all_of + each)
         return rows
 
-    def clauses(self):
-        """The CLAUSES, each once, in order."""
-        rows = self.pairs_of_joined() + [[self.pair(text, True)] for text in self.tops]
+    def rows(self):
+        """The CLAUSES, each once, in order, each as a list of pairs (key, literal), rising."""
         found = {}
-        for row in rows:
+        for row in self.pairs_of_joined() + [[self.pair(text, True)] for text in self.tops]:
             table = dict(row)
             keys = tuple(sorted(table))
-            found.setdefault(keys, tuple([table[key] for key in keys]))
+            found.setdefault(keys, [(key, table[key]) for key in keys])
         return list(found.values())
+
+    def clauses(self):
+        """The CLAUSES, each once, in order."""
+        return [tuple([literal for _, literal in row]) for row in self.rows()]
 
 
 def turned_right(atom):

@@ -62,6 +62,22 @@ class Closure:
             self.users[place].append(number)
         return number
 
+    def copied(self):
+        """Another one of the same terms, that goes on by itself; to be asked ahead of the first tie."""
+        other = Closure(self.is_of_trees)
+        # Who the terms are isn't changed by any tie, but signed tells of them by their roots.
+        other.numbers = self.numbers
+        other.terms = self.terms
+        other.heads = self.heads
+        other.places = self.places
+        other.roots = list(self.roots)
+        other.members = [[number] for number in self.roots]
+        other.users = [list(users) for users in self.users]
+        other.built = list(self.built)
+        other.signed = {key: self.signed[key] for key in self.signed}
+        other.links = [None] * len(self.terms)
+        return other
+
     def number_of(self, term):
         """The number of a term, None if it wasn't taken in."""
         places = [self.number_of(inner) for inner in inner_terms(term)]

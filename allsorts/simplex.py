@@ -91,9 +91,15 @@ class Simplex:
         other.clash = self.clash
         return other
 
-    def variable(self):
+    def unbind(self):
+        """Takes all bounds away; the worths stay, by which less has to be moved where others come."""
+        self.lows = [None] * len(self.worths)
+        self.highs = [None] * len(self.worths)
+        self.clash = None
+
+    def variable(self, worth=(0, 0, 1)):
         """The number of a new variable."""
-        self.worths.append((0, 0, 1))
+        self.worths.append(worth)
         self.lows.append(None)
         self.highs.append(None)
         return len(self.worths) - 1

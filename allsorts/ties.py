@@ -85,6 +85,12 @@ def paper_of(lot):
     return (maker.chain(), ("apart", numbers[0], numbers[1], rows))
 
 
+def tear_of(lot):
+    """Of a LOT that is TORN some literals by which it is, as a LOT, and a PAPER of that."""
+    few = reasons(lot)
+    return (few, paper_of(few))
+
+
 def is_lot(thing):
     """Whether anything is a LOT."""
     return lot_keys(thing) is not None
