@@ -102,7 +102,7 @@ class Bounds:
         if word == "zero" or scale < 0:
             self.simplex.bound_below(variable, bound, (source, scale))
 
-    def sources(self):
+    def sources_of_clash(self):
         """The sources of what clashes, each once."""
         found = {}
         for (source, _), _ in self.simplex.clash:
@@ -142,7 +142,7 @@ class Bounds:
         worth = self.simplex.worths[variable]
         return (number * worth[2] + scale * worth[0], scale * worth[1]) <= (0, 0)
 
-    def apart(self, one, other, held):
+    def try_apart(self, one, other, held):
         """None where two terms can be unlike, and the point is of such numbers then; else a list of sources.
 
         `held` are pairs of terms that are unlike at the point, and stay so.
@@ -161,7 +161,7 @@ class Bounds:
                 if self.simplex.settle():
                     point = self.simplex.first_numbers(len(self.simplex.worths))
                 else:
-                    for source in self.sources():
+                    for source in self.sources_of_clash():
                         found[source] = True
         self.simplex.lows, self.simplex.highs, self.simplex.clash = lows, highs, None
         if point is None:

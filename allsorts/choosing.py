@@ -24,7 +24,7 @@ class Signs:
         """The numbers of these literals, in a list."""
         return [self.number(key, literal) for key, literal in zip(keys, literals)]
 
-    def search(self, rows):
+    def search_of(self, rows):
         """A search over the signs so far that has these clauses."""
         search = Search(len(self.signs))
         for row in rows:
@@ -72,7 +72,7 @@ def at_once(clauses, literals=()):
     if keys is None:
         raise BadValue("literals")
     there = signs.clause(keys, literals)
-    search = signs.search(rows + [[number] for number in there])
+    search = signs.search_of(rows + [[number] for number in there])
     return signs.rising(search.trail) if search.settle() else None
 
 
@@ -83,7 +83,7 @@ def check_rows(clauses, rows):
     ahead = numbered(signs, rows) if type(rows) == tuple else None
     if ahead is None or [] not in ahead:
         return False
-    search = signs.search(there)
+    search = signs.search_of(there)
     for row in ahead:
         if not search.clashes([number ^ 1 for number in row]):
             return False
@@ -94,7 +94,7 @@ def check_rows(clauses, rows):
 def choose(clauses):
     """What is CHOSEN of CLAUSES: ("yes", LITERALS), or ("no", ROWS)."""
     signs = Signs()
-    search = signs.search(check_clauses(signs, clauses))
+    search = signs.search_of(check_clauses(signs, clauses))
     learnt = search.choose()
     if learnt is None:
         return ("yes", signs.rising(search.trail))

@@ -162,7 +162,7 @@ class Numbering:
             rows.extend(each + all_of if is_and else all_of + each)
         return rows
 
-    def rows(self):
+    def keyed_rows(self):
         """The CLAUSES, each once, in order, each as a list of pairs (key, literal), rising."""
         found = {}
         for row in self.pairs_of_joined() + [[self.pair(text, True)] for text in self.tops]:
@@ -171,9 +171,9 @@ class Numbering:
             found.setdefault(keys, [(key, table[key]) for key in keys])
         return list(found.values())
 
-    def clauses(self):
+    def told_clauses(self):
         """The CLAUSES, each once, in order."""
-        return [tuple([literal for _, literal in row]) for row in self.rows()]
+        return [tuple([literal for _, literal in row]) for row in self.keyed_rows()]
 
 
 def turned_right(atom):
@@ -223,4 +223,4 @@ def literal_of(saying, sayings):
 def clauses_of(sayings):
     """A list of the CLAUSES of some SAYINGS that FIT."""
     fit(sayings)
-    return Numbering(sayings).clauses()
+    return Numbering(sayings).told_clauses()

@@ -43,12 +43,12 @@ class Growth:
         # Of each clause of the search why it stands there; what was learnt has no row.
         self.whys = {}
         # The pair of sets of each number apart, and the NAMES that are in use.
-        self.apart = {}
+        self.pairs_apart = {}
         self.used = {}
         # How many terms of bits and how many signs were gone through, and of which pairs it was told.
         self.bits_done = 0
         self.signs_done = 0
-        self.told = {}
+        self.told_of = {}
 
     def sign(self, key, thing):
         """The number of a sign, by its key."""
@@ -69,7 +69,7 @@ class Growth:
             truth = False
             if self.table.words[sign] == "bit":
                 # Names that aren't told of begin with other bits each.
-                number = self.table.inner[sign][0]
+                number = self.table.atom_places[sign][0]
                 truth = self.table.words_of_bits.index(number) >> self.table.bits[sign] & 1 == 1
             self.search.add_sign(truth)
 
@@ -113,7 +113,7 @@ class Growth:
     def tell_same_bits(self, sign):
         """Adds that two terms of bits have the same bits, if the sign tells that they are the same."""
         if self.table.words[sign] == "same":
-            one, other = self.table.inner[sign]
+            one, other = self.table.atom_places[sign]
             if self.table.sorts[one] == "bits" and one != other:
                 for bit in BITS:
                     self.add_alike(sign, self.atom("bit", bit, (one,)), self.atom("bit", bit, (other,)))
@@ -136,15 +136,15 @@ class Growth:
                         link(roots, number, place)
                     else:
                         numbers.append((place, number))
-        for call in table.calls:
+        for call in table.all_calls:
             for at, place in enumerate((call,) + table.closure.places[call]):
                 if table.sorts[place] == "set":
                     link(roots, place, first.setdefault((table.closure.heads[call], at), place))
         for sign, word in enumerate(table.words):
             if word == "in":
-                numbers.append(table.inner[sign])
-            elif word == "same" and table.sorts[table.inner[sign][0]] == "set":
-                link(roots, table.inner[sign][0], table.inner[sign][1])
+                numbers.append(table.atom_places[sign])
+            elif word == "same" and table.sorts[table.atom_places[sign][0]] == "set":
+                link(roots, table.atom_places[sign][0], table.atom_places[sign][1])
         realms = {}
         for number in table.sets:
             realms.setdefault(root_of(roots, number), ([], {}))[0].append(number)
@@ -156,13 +156,13 @@ class Growth:
         """Adds of each number of a realm what it is to be in a set of it, and in two that are the same."""
         if len(self.table.sets) == 0:
             return
-        sames = [(sign, self.table.inner[sign]) for sign, word in enumerate(self.table.words)
-                 if word == "same" and self.table.sorts[self.table.inner[sign][0]] == "set"]
+        sames = [(sign, self.table.atom_places[sign]) for sign, word in enumerate(self.table.words)
+                 if word == "same" and self.table.sorts[self.table.atom_places[sign][0]] == "set"]
         for sets, numbers in self.realms().values():
             for number in sorted(numbers):
                 for where in sets:
-                    if (number, where) not in self.told:
-                        self.told[(number, where)] = True
+                    if (number, where) not in self.told_of:
+                        self.told_of[(number, where)] = True
                         self.tell_in(number, where)
             for sign, (one, other) in sames:
                 if one in sets and one != other:
@@ -171,8 +171,8 @@ class Growth:
     def tell_same_sets(self, sign, one, other, numbers):
         """Adds of these numbers that they are in two sets alike, if the sign tells that these are the same."""
         for number in numbers:
-            if (number, -1 - sign) not in self.told:
-                self.told[(number, -1 - sign)] = True
+            if (number, -1 - sign) not in self.told_of:
+                self.told_of[(number, -1 - sign)] = True
                 self.add_alike(sign, self.atom("in", 0, (number, one)), self.atom("in", 0, (number, other)))
 
     def tell_in(self, number, where):
@@ -212,7 +212,7 @@ class Growth:
                 met[one] = met[other] = True
                 same = self.atom("same", 0, (one, other))
                 name = self.fresh_name()
-                self.apart[name] = (one, other)
+                self.pairs_apart[name] = (one, other)
                 number = self.table.term(("name", name, "num"))
                 ins = [self.atom("in", 0, (number, place)) for place in (one, other)]
                 self.add([2 * same + 1, 2 * ins[0] + 1, 2 * ins[1] + 1], ("apart", name))
@@ -221,17 +221,17 @@ class Growth:
     def is_apart(self, number):
         """Whether a term is a number apart."""
         term = self.table.closure.terms[number]
-        return term[0] == "name" and term[2] == "num" and term[1] in self.apart
+        return term[0] == "name" and term[2] == "num" and term[1] in self.pairs_apart
 
     def has_apart(self, sign):
         """Whether a sign tells of a number apart; none stands within another term."""
-        return any([self.is_apart(place) for place in self.table.inner[sign]])
+        return any([self.is_apart(place) for place in self.table.atom_places[sign]])
 
     def ask_widely(self):
         """Brings the atoms same of what stands at one place of two calls, of two such, of what tips and sets are of."""
         table = self.table
         lots = {}
-        for call in table.calls:
+        for call in table.all_calls:
             for at, place in enumerate((call,) + table.closure.places[call]):
                 lots.setdefault((table.closure.heads[call], at), {})[place] = True
         for number in table.trees + table.sets:
@@ -240,7 +240,7 @@ class Growth:
                 lots.setdefault(word, {})[table.closure.places[number][0]] = True
         for sign, word in enumerate(table.words):
             if word == "in" and not self.has_apart(sign):
-                lots.setdefault("one", {})[table.inner[sign][0]] = True
+                lots.setdefault("one", {})[table.atom_places[sign][0]] = True
         for lot in lots.values():
             once = sorted(lot)
             for at, one in enumerate(once):

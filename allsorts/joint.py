@@ -22,12 +22,13 @@ class Joint:
         self.search = self.growth.search
         self.bounds = Bounds(self.table)
         self.judge = None
-        self.asked = 0
+        # Of how many atoms those were asked that are handed in.
+        self.asked = None
         for saying in sayings:
             for what, name, _ in uses_in_order(saying):
                 if what == "name":
                     self.growth.used[name] = True
-        for row in numbering.rows():
+        for row in numbering.keyed_rows():
             self.growth.add_pairs(row, ("say",))
         self.grow()
 
@@ -36,13 +37,14 @@ class Joint:
         self.growth.grow()
         if len(self.more) == 0:
             return
-        while self.asked == 0 or self.asked < len(self.table.keys):
-            self.asked = max(1, len(self.table.keys))
-            atoms = self.atoms_outside()
+        atoms = self.atoms_outside()
+        while self.asked is None or self.asked < len(atoms):
+            self.asked = len(atoms)
             for part in self.more:
                 for keys, clause, cert in lemmas_told(part, atoms):
                     self.growth.add_pairs(list(zip(keys, clause)), ("part", part[0], cert))
             self.growth.grow()
+            atoms = self.atoms_outside()
 
     def signs_outside(self):
         """The signs of atoms that may be handed to others, rising."""
@@ -71,14 +73,14 @@ class Joint:
     def first_choice(self, sign):
         """The literal of a free sign that is tried first."""
         if self.table.words[sign] == "most":
-            one, other = self.table.inner[sign]
+            one, other = self.table.atom_places[sign]
             return 2 * sign + (1 if self.bounds.seems_at_most(one, other) else 0)
         return 2 * sign + (1 if self.search.last[sign] else 0)
 
     def is_upheld(self):
         """Whether nothing refutes the literals that are there, all being decided; else there is something new."""
         self.judge = Judge(self.table, self.bounds, self.search.trail, True)
-        if not self.judge.judge():
+        if not self.judge.can_hold():
             literals = self.judge.literals_of(self.judge.clash)
             self.refute([literal ^ 1 for literal in literals], ("judged",))
             return False

@@ -24,7 +24,7 @@ class Judge:
         # and the two terms.
         self.given = []
         self.ends = []
-        self.unlike = []
+        self.unlikes = []
         self.within = []
         self.bits = {}
         # None, or the source of what clashes.
@@ -45,15 +45,15 @@ class Judge:
         word = self.table.words[literal >> 1]
         truth = literal & 1 == 1
         if word == "same":
-            one, other = self.table.inner[literal >> 1]
+            one, other = self.table.atom_places[literal >> 1]
             if truth:
                 self.tie(one, other, ("told", (literal,), ()))
                 if self.table.sorts[one] == "num":
                     self.bounds.tell(one, other, "zero", (literal,))
             else:
-                self.unlike.append(literal)
+                self.unlikes.append(literal)
         elif word == "most":
-            one, other = self.table.inner[literal >> 1]
+            one, other = self.table.atom_places[literal >> 1]
             if truth:
                 self.bounds.tell(one, other, "most", (literal,))
             else:
@@ -61,7 +61,7 @@ class Judge:
         elif word == "in":
             self.within.append(literal)
         elif word == "bit":
-            self.bits[(self.table.inner[literal >> 1][0], self.table.bits[literal >> 1])] = literal
+            self.bits[(self.table.atom_places[literal >> 1][0], self.table.bits[literal >> 1])] = literal
 
     def tie(self, one, other, source):
         """Has two terms tied."""
@@ -69,7 +69,7 @@ class Judge:
         self.given.append(source)
         self.ends.append((one, other))
 
-    def judge(self):
+    def can_hold(self):
         """Whether nothing clashes."""
         self.tie_alike_bits()
         while self.settle_ties() and self.settle_sums():
@@ -135,8 +135,8 @@ class Judge:
 
     def unlike_tied(self):
         """The source of two terms' being tied that are told to be unlike, None if there are none such."""
-        for literal in self.unlike:
-            one, other = self.table.inner[literal >> 1]
+        for literal in self.unlikes:
+            one, other = self.table.atom_places[literal >> 1]
             if self.closure.roots[one] == self.closure.roots[other]:
                 return ("ties", (literal,), ((one, other),))
             if self.table.sorts[one] == "bits":
@@ -146,15 +146,15 @@ class Judge:
         return None
 
     def opposed_of_one_head(self):
-        """The source of two atoms', in or bit, being told unlike, whose places are tied; None if there are none such."""
+        """The source of an in or a bit with True and one with False, their places tied; None if there are none such."""
         roots = self.closure.roots
         first = {}
         for literal in self.within + list(self.bits.values()):
             sign = literal >> 1
-            places = self.table.inner[sign]
+            places = self.table.atom_places[sign]
             other = first.setdefault((self.table.bits[sign],) + tuple([roots[place] for place in places]), literal)
             if other & 1 != literal & 1:
-                pairs = tuple(zip(self.table.inner[other >> 1], places))
+                pairs = tuple(zip(self.table.atom_places[other >> 1], places))
                 return ("ties", (other, literal), pairs)
         return None
 
@@ -165,7 +165,7 @@ class Judge:
                 self.bounds.tell(one, other, "zero", (one, other))
         self.passed = len(self.closure.ties)
         if not self.bounds.settle():
-            self.clash = self.source_of_sums(self.bounds.sources(), ())
+            self.clash = self.source_of_sums(self.bounds.sources_of_clash(), ())
             return False
         self.is_spread = False
         self.held = []
@@ -191,7 +191,7 @@ class Judge:
                 self.bounds.spread()
                 self.is_spread = True
                 continue
-            sources = self.bounds.apart(one, other, self.held)
+            sources = self.bounds.try_apart(one, other, self.held)
             if sources is None:
                 self.held.append((one, other))
             elif len(literals) > 0:
@@ -212,8 +212,8 @@ class Judge:
 
         With them a tuple of the literal that tells them to be unlike, if there is one. None if there are no such.
         """
-        for literal in self.unlike:
-            one, other = self.table.inner[literal >> 1]
+        for literal in self.unlikes:
+            one, other = self.table.atom_places[literal >> 1]
             if self.table.sorts[one] == "num" and self.number_of(one) == self.number_of(other):
                 return (one, other, (literal,))
         return self.alike_tips() or self.alike_numbers_in_sets() or self.alike_calls()
@@ -234,17 +234,17 @@ class Judge:
         """As alike, of numbers of which the one is told to be in a set, the other one not."""
         first = {}
         for literal in self.within:
-            one, where = self.table.inner[literal >> 1]
+            one, where = self.table.atom_places[literal >> 1]
             other = first.setdefault((self.number_of(one), self.closure.roots[where]), literal)
             if other & 1 != literal & 1:
-                return (self.table.inner[other >> 1][0], one, ())
+                return (self.table.atom_places[other >> 1][0], one, ())
         return None
 
-    def members(self, sets):
+    def members_of(self, sets):
         """Of each of these sets the numbers that are told to be in it, each once."""
         found = {number: {} for number in sets}
         for literal in self.within if len(found) > 0 else []:
-            one, where = self.table.inner[literal >> 1]
+            one, where = self.table.atom_places[literal >> 1]
             if literal & 1 == 1 and where in found:
                 found[where][self.number_of(one)] = True
         return {number: tuple(sorted(found[number])) for number in found}
@@ -252,10 +252,10 @@ class Judge:
     def alike_calls(self):
         """As alike, of what stands in two calls that aren't tied, but of which all places come to the same."""
         roots, sorts = self.closure.roots, self.table.sorts
-        members = self.members(self.table.in_calls("set")) if self.is_whole else {}
+        members = self.members_of(self.table.in_calls("set")) if self.is_whole else {}
         first = {}
         self.wanted = []
-        for number in self.table.calls:
+        for number in self.table.all_calls:
             key = [self.closure.heads[number]]
             for place in self.closure.places[number]:
                 if sorts[place] == "num":
@@ -274,9 +274,9 @@ class Judge:
 
     def unlike_sets(self):
         """The pairs of sets that are told to be unlike, but of which the same numbers are told."""
-        pairs = [self.table.inner[literal >> 1] for literal in self.unlike]
+        pairs = [self.table.atom_places[literal >> 1] for literal in self.unlikes]
         pairs = [pair for pair in pairs if self.table.sorts[pair[0]] == "set"]
-        members = self.members([number for pair in pairs for number in pair])
+        members = self.members_of([number for pair in pairs for number in pair])
         return [pair for pair in pairs if members[pair[0]] == members[pair[1]]]
 
     def told_by(self, pairs):

@@ -16,7 +16,7 @@ class Making:
         self.table = table
         self.judge = judge
         self.roots = judge.closure.roots
-        self.members = judge.members(table.sets)
+        self.members = judge.members_of(table.sets)
         self.things = {}
         # Of each lot of trees a tip or a node in it, and of each its VALUE.
         self.built = {self.roots[number]: number for number in table.trees}

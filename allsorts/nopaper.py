@@ -38,14 +38,14 @@ class Looker:
     """What a PAPER is looked at by: its SAYINGS, and the PARTS."""
 
     def __init__(self, sayings, parts):
-        self.said = {}
-        for row in Numbering(sayings).rows():
-            self.said[tuple([key for key, _ in row])] = True
+        self.clauses_said = {}
+        for row in Numbering(sayings).keyed_rows():
+            self.clauses_said[tuple([key for key, _ in row])] = True
         self.parts = {part[0]: part for part in parts_here() + parts}
         self.others = [part[0] for part in parts]
-        self.names = names_of_atoms(sayings)
+        self.names_said = names_of_atoms(sayings)
         # Of each number apart its pair; the NAMES in all pairs so far, and those in CLAUSES of PARTS handed in.
-        self.apart = {}
+        self.pairs_apart = {}
         self.in_pairs = {}
         self.outside = {}
         # Numbers of the signs, and the search that has the CLAUSES of the rows so far.
@@ -66,7 +66,7 @@ class Looker:
                 self.outside.update(names_of_atoms([atom for atom, _ in row[0] if atom[0] != "part"]))
         return found if found[-1] == [] else None
 
-    def numbers(self, keys):
+    def numbered(self, keys):
         """The literals of these keys, as a search counts them."""
         return [2 * self.signs.setdefault(key[:3], len(self.signs)) + (1 if key[3] else 0) for key in keys]
 
@@ -75,7 +75,7 @@ class Looker:
         keys = self.keys_of(paper)
         if keys is None:
             return False
-        rows = [self.numbers(row) for row in keys]
+        rows = [self.numbered(row) for row in keys]
         self.search = Search(len(self.signs))
         for at, (clause, why) in enumerate(paper):
             if not self.is_so(keys[at], rows[at], clause, why):
@@ -87,7 +87,7 @@ class Looker:
         """Whether a row is so, by those ahead."""
         if len(why) == 1:
             if why[0] == "say":
-                return tuple(keys) in self.said
+                return tuple(keys) in self.clauses_said
             return why[0] == "rows" and self.search.clashes([number ^ 1 for number in numbers])
         if len(why) != 2:
             return False
@@ -101,14 +101,14 @@ class Looker:
     def is_apart(self, clause, name):
         """Whether a CLAUSE is one of the number apart of a NAME, which may be used so."""
         pair = pair_of(clause, name)
-        if pair is None or name in self.names or name in self.outside or name in names_of_atoms([pair]):
+        if pair is None or name in self.names_said or name in self.outside or name in names_of_atoms([pair]):
             return False
-        if name not in self.apart:
+        if name not in self.pairs_apart:
             if name in self.in_pairs:
                 return False
-            self.apart[name] = pair
+            self.pairs_apart[name] = pair
             self.in_pairs.update(names_of_atoms([pair]))
-        return self.apart[name] == pair
+        return self.pairs_apart[name] == pair
 
 
 def check_no(sayings, paper, *, more=()):

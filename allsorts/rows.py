@@ -66,15 +66,17 @@ class Rows:
     def put_judged(self, literals):
         """Puts rows by which it follows at once that not all of these literals can hold."""
         self.judge = Judge(self.table, self.joint.bounds, literals, False)
-        self.judge.judge()
+        self.judge.can_hold()
         self.known = {}
         word, told, pairs = self.judge.clash
-        lot = [self.table.told(literal) for literal in told]
+        lot = [self.table.literal_told(literal) for literal in told]
         if word == "ties":
             lot = lot + [self.literal_of_tie(number) for number in self.judge.told_by(pairs)]
         else:
             lot = lot + [self.literal_of_pair(one, other) for one, other in pairs if one != other]
-        lot = self.put(word, lot)
+        # Where it is told of a tie itself that it isn't so, no part need be asked.
+        if not any([against(literal) in lot for literal in lot]):
+            lot = self.put(word, lot)
         whole = self.table.rising([literal ^ 1 for literal in self.judge.literals_of(self.judge.clash)])
         if not all([against(literal) in whole for literal in lot]):
             self.rows.append((whole, ("rows",)))
@@ -84,10 +86,10 @@ class Rows:
         if number not in self.known:
             word, told, pairs = self.judge.given[number]
             if word == "told":
-                self.known[number] = self.table.told(told[0])
+                self.known[number] = self.table.literal_told(told[0])
             else:
                 literal = self.same(self.judge.ends[number])
-                lot = [self.table.told(one) for one in told]
+                lot = [self.table.literal_told(one) for one in told]
                 lot = lot + [self.literal_of_pair(first, last) for first, last in pairs]
                 self.put(word, lot + [against(literal)])
                 self.known[number] = literal
@@ -95,7 +97,7 @@ class Rows:
 
     def same(self, pair):
         """The LITERAL that two terms are the same."""
-        return self.table.told(2 * self.table.atom("same", 0, pair) + 1)
+        return self.table.literal_told(2 * self.table.atom("same", 0, pair) + 1)
 
     def literal_of_pair(self, one, other):
         """The LITERAL that two tied terms are the same, for which there are rows, if it needs any."""

@@ -20,13 +20,13 @@ class Table:
         self.trees = []
         self.sets = []
         self.words_of_bits = []
-        self.calls = []
+        self.all_calls = []
         # Of each sign its key, itself, its word, its number if it is of a bit, and its terms' numbers.
         self.keys = []
         self.signs = []
         self.words = []
         self.bits = []
-        self.inner = []
+        self.atom_places = []
         self.by_key = {}
         self.by_places = {}
 
@@ -43,7 +43,7 @@ class Table:
         self.texts.append(term_text(term))
         self.sorts.append(term_sort(term))
         if term[0] == "call":
-            self.calls.append(number)
+            self.all_calls.append(number)
         if term[0] in ("tip", "node"):
             self.trees.append(number)
         if self.sorts[number] == "set":
@@ -61,7 +61,7 @@ class Table:
             self.signs.append(thing)
             self.words.append(thing[0])
             self.bits.append(thing[1] if thing[0] == "bit" else 0)
-            self.inner.append(places)
+            self.atom_places.append(places)
         return self.by_key[key]
 
     def atom(self, word, bit, places):
@@ -76,18 +76,18 @@ class Table:
             self.by_places[known] = self.sign((1, 0, text), (word,) + numbers + terms)
         return self.by_places[known]
 
-    def told(self, literal):
+    def literal_told(self, literal):
         """The LITERAL of a number."""
         return (self.signs[literal >> 1], literal & 1 == 1)
 
     def rising(self, literals):
         """The LITERALS of these numbers, each once, rising, as a tuple."""
-        return tuple([self.told(literal) for literal in sorted(literals, key=lambda one: (self.keys[one >> 1], one & 1))])
+        return tuple([self.literal_told(literal) for literal in sorted(literals, key=lambda one: (self.keys[one >> 1], one & 1))])
 
     def in_calls(self, sort):
         """The numbers of the terms of a sort that stand straight in calls, rising."""
         found = {}
-        for call in self.calls:
+        for call in self.all_calls:
             for place in self.closure.places[call]:
                 if self.sorts[place] == sort:
                     found[place] = True

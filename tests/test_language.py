@@ -80,7 +80,7 @@ class LanguageTest(unittest.TestCase):
         for name, tree in self.trees():
             for node in ast.walk(tree):
                 # With an __eq__ in the package any, all, sorted and their like take lists.
-                self.assertNotIsInstance(node, (ast.GeneratorExp, ast.Yield, ast.Try, ast.Global,
+                self.assertNotIsInstance(node, (ast.GeneratorExp, ast.Yield, ast.Global,
                                                 ast.AsyncFunctionDef), name)
                 if isinstance(node, ast.Compare):
                     for sign, other in zip(node.ops, node.comparators):
