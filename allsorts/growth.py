@@ -64,7 +64,7 @@ class Growth:
 
     def add_signs(self):
         """Has the search know all signs of the table; of each the truth is told that is tried first."""
-        while len(self.search.last) < len(self.table.keys):
+        while len(self.search.last) < len(self.table.sign_keys):
             sign = len(self.search.last)
             truth = False
             if self.table.words[sign] == "bit":
@@ -73,7 +73,7 @@ class Growth:
                 truth = self.table.words_of_bits.index(number) >> self.table.bits[sign] & 1 == 1
             self.search.add_sign(truth)
 
-    def add(self, literals, why):
+    def put_clause(self, literals, why):
         """Adds a clause."""
         once = {}
         for literal in literals:
@@ -82,17 +82,17 @@ class Growth:
 
     def add_pairs(self, pairs, why):
         """Adds a clause of pairs (key, LITERAL)."""
-        self.add([2 * self.sign(key[:3], literal[0]) + (1 if literal[1] else 0) for key, literal in pairs], why)
+        self.put_clause([2 * self.sign(key[:3], literal[0]) + (1 if literal[1] else 0) for key, literal in pairs], why)
 
     def grow(self):
         """Adds what holds always, till nothing comes any more."""
         if self.is_wide:
             self.ask_widely()
-        while self.bits_done < len(self.table.words_of_bits) or self.signs_done < len(self.table.keys):
+        while self.bits_done < len(self.table.words_of_bits) or self.signs_done < len(self.table.sign_keys):
             while self.bits_done < len(self.table.words_of_bits):
                 self.tell_bits(self.table.words_of_bits[self.bits_done])
                 self.bits_done += 1
-            while self.signs_done < len(self.table.keys):
+            while self.signs_done < len(self.table.sign_keys):
                 self.tell_same_bits(self.signs_done)
                 self.signs_done += 1
             self.tell_sets()
@@ -108,7 +108,7 @@ class Growth:
         for row in rows_of(term):
             literals = [2 * self.atom("bit", bit, (numbers[which],)) + (1 if truth else 0) for which, bit, truth in row]
             if not any([literal ^ 1 in literals for literal in literals]):
-                self.add(literals, ("bits", term))
+                self.put_clause(literals, ("bits", term))
 
     def tell_same_bits(self, sign):
         """Adds that two terms of bits have the same bits, if the sign tells that they are the same."""
@@ -120,8 +120,8 @@ class Growth:
 
     def add_alike(self, same, one, other):
         """Adds that two signs have one truth where `same` has True."""
-        self.add([2 * same, 2 * one, 2 * other + 1], ("ties",))
-        self.add([2 * same, 2 * one + 1, 2 * other], ("ties",))
+        self.put_clause([2 * same, 2 * one, 2 * other + 1], ("ties",))
+        self.put_clause([2 * same, 2 * one + 1, 2 * other], ("ties",))
 
     def realms(self):
         """By the number of one of them, lists of the sets that may be compared, and of the numbers told of these."""
@@ -189,7 +189,7 @@ class Growth:
             literals = [2 * other + (1 if truth else 0) for other, truth in zip(others, truths) if truth is not None]
             literals.append(2 * itself + (1 if truths[2] else 0))
             if not any([literal ^ 1 in literals for literal in literals]):
-                self.add(literals, ("sets", made))
+                self.put_clause(literals, ("sets", made))
 
     def fresh_name(self):
         """A NAME that isn't in use."""
@@ -201,7 +201,7 @@ class Growth:
         self.used[name] = True
         return name
 
-    def split(self, pairs):
+    def split_sets(self, pairs):
         """Has two sets of each of these pairs differ by a number apart, unless they are the same.
 
         No set comes twice: a number apart for the one pair may do for the other one, too.
@@ -215,8 +215,8 @@ class Growth:
                 self.pairs_apart[name] = (one, other)
                 number = self.table.term(("name", name, "num"))
                 ins = [self.atom("in", 0, (number, place)) for place in (one, other)]
-                self.add([2 * same + 1, 2 * ins[0] + 1, 2 * ins[1] + 1], ("apart", name))
-                self.add([2 * same + 1, 2 * ins[0], 2 * ins[1]], ("apart", name))
+                self.put_clause([2 * same + 1, 2 * ins[0] + 1, 2 * ins[1] + 1], ("apart", name))
+                self.put_clause([2 * same + 1, 2 * ins[0], 2 * ins[1]], ("apart", name))
 
     def is_apart(self, number):
         """Whether a term is a number apart."""

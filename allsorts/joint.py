@@ -50,7 +50,7 @@ class Joint:
         """The signs of atoms that may be handed to others, rising."""
         signs = [sign for sign, word in enumerate(self.table.words)
                  if word != "part" and not self.growth.has_apart(sign)]
-        return sorted(signs, key=lambda sign: self.table.keys[sign])
+        return sorted(signs, key=lambda sign: self.table.sign_keys[sign])
 
     def atoms_outside(self):
         """The atoms that may be handed to others, sorted by TEXTS."""
@@ -87,7 +87,7 @@ class Joint:
         pairs = self.judge.wanted + self.judge.unlike_sets()
         if len(pairs) > 0:
             self.search.back_to(0)
-            self.growth.split(pairs)
+            self.growth.split_sets(pairs)
             self.grow()
             return False
         return not self.is_refuted_outside()

@@ -22,7 +22,7 @@ class Table:
         self.words_of_bits = []
         self.all_calls = []
         # Of each sign its key, itself, its word, its number if it is of a bit, and its terms' numbers.
-        self.keys = []
+        self.sign_keys = []
         self.signs = []
         self.words = []
         self.bits = []
@@ -56,8 +56,8 @@ class Table:
         if key not in self.by_key:
             terms = () if thing[0] == "part" else atom_terms(thing)
             places = tuple([self.term(term) for term in terms])
-            self.by_key[key] = len(self.keys)
-            self.keys.append(key)
+            self.by_key[key] = len(self.sign_keys)
+            self.sign_keys.append(key)
             self.signs.append(thing)
             self.words.append(thing[0])
             self.bits.append(thing[1] if thing[0] == "bit" else 0)
@@ -82,7 +82,8 @@ class Table:
 
     def rising(self, literals):
         """The LITERALS of these numbers, each once, rising, as a tuple."""
-        return tuple([self.literal_told(literal) for literal in sorted(literals, key=lambda one: (self.keys[one >> 1], one & 1))])
+        in_order = sorted(literals, key=lambda one: (self.sign_keys[one >> 1], one & 1))
+        return tuple([self.literal_told(literal) for literal in in_order])
 
     def in_calls(self, sort):
         """The numbers of the terms of a sort that stand straight in calls, rising."""
