@@ -151,19 +151,20 @@ class Bounds:
         self.gap(one, other)
         self.gap(other, one)
         self.cover(self.point)
-        lows, highs = self.simplex.lows, self.simplex.highs
+        simplex = self.simplex
+        lows, highs = simplex.lows, simplex.highs
         found = {}
         point = None
         for first, second in ((one, other), (other, one)):
             if point is None:
-                self.simplex.lows, self.simplex.highs, self.simplex.clash = list(lows), list(highs), None
+                simplex.lows, simplex.highs, simplex.clash = list(lows), list(highs), None
                 self.tell(first, second, "below", None)
-                if self.simplex.settle():
-                    point = self.simplex.first_numbers(len(self.simplex.worths))
+                if simplex.settle():
+                    point = simplex.first_numbers(len(simplex.worths))
                 else:
                     for source in self.sources_of_clash():
                         found[source] = True
-        self.simplex.lows, self.simplex.highs, self.simplex.clash = lows, highs, None
+        simplex.lows, simplex.highs, simplex.clash = lows, highs, None
         if point is None:
             return [source for source in found if source is not None]
         self.go_to(point, held + [(one, other)])

@@ -32,7 +32,7 @@ def least(sayings):
     told = decided(sayings, ())
     if told[0] == "yes":
         return None
-    lot = needed(sayings, range(len(sayings)), told[1])
+    lot = needed(sayings, list(range(len(sayings))), told[1])
     models = {}
     at = 0
     while at < len(lot):
