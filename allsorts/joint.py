@@ -6,10 +6,15 @@ that are handed in are asked last. Whatever clashes comes back to the search as 
 
 from allsorts.bounds import Bounds
 from allsorts.clauses import lot_keys
+from allsorts.cuts import Cuts
 from allsorts.growth import Growth
 from allsorts.judge import Judge
 from allsorts.outside import lemmas_told, refuted
 from allsorts.sayings import uses_in_order
+
+
+# How many times it clashes ere it is cut.
+MANY = 60
 
 
 class Joint:
@@ -22,6 +27,8 @@ class Joint:
         self.search = self.growth.search
         self.bounds = Bounds(self.table)
         self.judge = None
+        self.cuts = Cuts()
+        self.clashes = 0
         # Of how many atoms those were asked that are handed in.
         self.asked = None
         for saying in sayings:
@@ -79,8 +86,11 @@ class Joint:
 
     def is_upheld(self):
         """Whether nothing refutes the literals that are there, all being decided; else there is something new."""
-        self.judge = Judge(self.table, self.bounds, self.search.trail, True)
+        self.judge = Judge(self.table, self.bounds, self.cuts.ahead(self.search.trail), True)
         if not self.judge.can_hold():
+            self.clashes += 1
+            if self.clashes > MANY and self.has_cut():
+                return False
             literals = self.judge.literals_of(self.judge.clash)
             self.refute([literal ^ 1 for literal in literals], ("judged",))
             return False
@@ -91,6 +101,23 @@ class Joint:
             self.grow()
             return False
         return not self.is_refuted_outside()
+
+    def has_cut(self):
+        """Whether what clashes was cut in two clauses, that are new, with an atom between them; or is less now."""
+        found = self.cuts.cut(self.judge, self.search.there)
+        if found is None:
+            return False
+        word, places, ahead, behind = found
+        if word == "":
+            self.refute([literal ^ 1 for literal in ahead], ("judged",))
+            return True
+        self.search.back_to(0)
+        between = 2 * self.growth.atom(word, 0, places) + 1
+        self.cuts.signs[between >> 1] = True
+        self.growth.put_clause([literal ^ 1 for literal in ahead] + [between], ("judged",))
+        self.growth.put_clause([literal ^ 1 for literal in behind] + [between ^ 1], ("judged",))
+        self.grow()
+        return True
 
     def refute(self, literals, why):
         """Turns back by a clause all of which is opposed."""

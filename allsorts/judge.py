@@ -134,16 +134,23 @@ class Judge:
         return ("trees", (), tuple(pairs))
 
     def unlike_tied(self):
-        """The source of two terms' being tied that are told to be unlike, None if there are none such."""
+        """The source of two terms' being tied that are told to be unlike, None if there are none such.
+
+        Of several the one with the shortest way from the one to the other is told.
+        """
+        found = []
         for literal in self.unlikes:
             one, other = self.table.atom_places[literal >> 1]
             if self.closure.roots[one] == self.closure.roots[other]:
-                return ("ties", (literal,), ((one, other),))
-            if self.table.sorts[one] == "bits":
+                found.append((len(self.closure.path(one, other)), literal))
+            elif self.table.sorts[one] == "bits":
                 words = (self.word_at(one), self.word_at(other))
                 if None not in words and [bit & 1 for bit in words[0]] == [bit & 1 for bit in words[1]]:
                     return ("bits", tuple([literal] + words[0] + words[1]), ())
-        return None
+        if len(found) == 0:
+            return None
+        literal = min(found)[1]
+        return ("ties", (literal,), (self.table.atom_places[literal >> 1],))
 
     def opposed_of_one_head(self):
         """The source of an in or a bit with True and one with False, their places tied; None if there are none such."""

@@ -206,6 +206,25 @@ class FewTest(Deciding):
         self.decided(low + packed(unlike(*names[:4])), "yes")
 
 
+    def test_choices_along_a_long_way(self):
+        """Each step by one of two terms: there are more ways than can be gone through one by one."""
+        for sort in ("thing", "num", "tree", "set", "bits"):
+            sayings = []
+            for at in range(16 if sort != "bits" else 6):
+                ends = [name("x" + "abcdefghijklmnopq"[at + more], sort) for more in (0, 1)]
+                ways = [name(letter + "abcdefghijklmnopq"[at], sort) for letter in "yz"]
+                sayings.append(("or", tuple(("and", (("same", ends[0], one), ("same", one, ends[1]))) for one in ways)))
+            self.decided(sayings, "yes")
+            self.decided(sayings + [not_(("same", name("xa", sort), ends[1]))], "no")
+        sayings = []
+        for at in range(9):
+            ends = [name("x" + "abcdefghij"[at + more]) for more in (0, 1)]
+            ways = [name(letter + "abcdefghij"[at]) for letter in "yz"]
+            sayings.append(("or", tuple(("and", (("most", ends[0], one), ("most", one, ends[1]))) for one in ways)))
+        self.decided(sayings + [not_(("most", ends[1], name("xa")))], "yes")
+        self.decided(sayings + [not_(("most", name("xa"), ends[1]))], "no")
+
+
 Q_TERM = ("name", "q", "thing")
 
 
