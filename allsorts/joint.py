@@ -28,7 +28,7 @@ class Joint:
         self.bounds = Bounds(self.table)
         self.judge = None
         self.cuts = Cuts()
-        self.clashes = 0
+        self.clashed = 0
         # Of how many atoms those were asked that are handed in.
         self.asked = None
         for saying in sayings:
@@ -88,8 +88,8 @@ class Joint:
         """Whether nothing refutes the literals that are there, all being decided; else there is something new."""
         self.judge = Judge(self.table, self.bounds, self.cuts.ahead(self.search.trail), True)
         if not self.judge.can_hold():
-            self.clashes += 1
-            if self.clashes > MANY and self.has_cut():
+            self.clashed += 1
+            if self.clashed > MANY and self.has_cut():
                 return False
             literals = self.judge.literals_of(self.judge.clash)
             self.refute([literal ^ 1 for literal in literals], ("judged",))
