@@ -6,7 +6,6 @@ are 1, of the first place, the second one, and what the sum's isn't.
 
 from allsorts.clauses import must_be_lot, right_and_text
 from allsorts.errors import BadValue
-from allsorts.sayings import is_atom
 from allsorts.sets import clause_from, parts_by_texts
 from allsorts.terms import in_brackets, inner_terms, is_term, term_sort, term_text
 from allsorts.values import is_value
@@ -124,11 +123,6 @@ def lemmas_of_same(one, other):
 
 def lemmas_of_bits(atoms):
     """A list of pairs (CLAUSE, CERT), by which it FOLLOWS AT ONCE what the bits of terms are, and what is the same."""
-    if type(atoms) not in (list, tuple):
-        raise BadValue("atoms")
-    for atom in atoms:
-        if not is_atom(atom):
-            raise BadValue("atoms")
     parts = parts_by_texts(atoms)
     lemmas = []
     for text in sorted(parts):

@@ -1,5 +1,6 @@
 """PARTS that are handed in: what they are asked, and what they must not tell."""
 
+from allsorts.chains import is_pair
 from allsorts.clauses import against, clause_keys, have_opposed, literal_key, lot_keys
 from allsorts.errors import BadPart
 from allsorts.sayings import terms_in_order
@@ -14,11 +15,6 @@ def is_lot_of(keys):
 def texts_of(atom):
     """The TEXTS of all terms in an atom."""
     return [term_text(term) for term in terms_in_order(atom)]
-
-
-def is_pair(thing):
-    """Whether anything is a pair."""
-    return type(thing) == tuple and len(thing) == 2
 
 
 def looked_at(part, lot, cert):

@@ -4,7 +4,7 @@ Of what was judged it isn't kept why it clashes. Only where its clause is needed
 tie that isn't told a row is made that it follows; so the clause itself follows at once.
 """
 
-from allsorts.clauses import against, clause_of, lot_of
+from allsorts.clauses import against, lot_of
 from allsorts.judge import Judge
 from allsorts.sums import refute_sums
 from allsorts.ties import tear_of

@@ -21,7 +21,12 @@ CLAUSES_OF_ITSELF = ((None, None, True),)
 
 
 def parts_by_texts(atoms):
-    """All terms that are PARTS of these atoms, by their TEXTS."""
+    """All terms that are PARTS of these ATOMS, by their TEXTS; refuses whatever is no list or tuple of such."""
+    if type(atoms) not in (list, tuple):
+        raise BadValue("atoms")
+    for atom in atoms:
+        if not is_atom(atom):
+            raise BadValue("atoms")
     table = {}
     for atom in atoms:
         for term in atom_terms(atom):
@@ -84,11 +89,6 @@ def clauses_of_set(number, text, made, texts):
 
 def lemmas_of_sets(atoms):
     """A list of pairs (CLAUSE, CERT), by which it FOLLOWS AT ONCE what is in each set of which its word tells."""
-    if type(atoms) not in (list, tuple):
-        raise BadValue("atoms")
-    for atom in atoms:
-        if not is_atom(atom):
-            raise BadValue("atoms")
     parts = parts_by_texts(atoms)
     numbers = numbers_told(atoms, parts)
     lemmas = []

@@ -7,7 +7,7 @@ import unittest
 
 from allsorts import joined
 from allsorts.clauses import clause_of, clauses_of, opposed, turned_right
-from allsorts.errors import BadPart, BadText, BadValue, Gone, NoFit, TooGreat
+from allsorts.errors import BadPart, BadValue, Gone, NoFit, TooGreat
 from allsorts.joined import decide
 from allsorts.nopaper import check_no
 from allsorts.parts import parts_here
