@@ -111,6 +111,7 @@ class LemmasTest(unittest.TestCase):
         lemmas = lemmas_of_bits(atoms)
         self.assertIs(type(lemmas), list)
         self.assertEqual(lemmas_of_bits(tuple(atoms)), lemmas)
+        self.assertEqual(len({clause for clause, _ in lemmas}), len(lemmas))
         parts = {part for atom in atoms for part in parts_of(atom)}
         for clause, cert in lemmas:
             self.assertIs(is_clause(clause), True)

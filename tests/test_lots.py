@@ -125,7 +125,7 @@ class CheckTest(unittest.TestCase):
         self.assertIs(check_lot(self.SAYINGS, (lot, no, models)), True)
         self.assertIs(check_lot(tuple(self.SAYINGS), (lot, no, models)), True)
         other = Model(props=["q"])
-        for paper in (((3, 1), no, models), ((1,), no, models[:1]), ((1, 2, 3), no, models + models[:1]),
+        for paper in (((3, 1), no, models), ((3, 1), no, models[::-1]), ((1,), no, models[:1]), ((1, 2, 3), no, models + models[:1]),
                       ((1, 1, 3), no, models[:1] + models), ((True, 3), no, models), ((1, 4), no, models),
                       ((-3, -1), no, models), ([1, 3], no, models), (lot, no[:-1], models), (lot, no[1:], models),
                       (lot, no, models[::-1]), (lot, no, models[:1]), (lot, no, models + models), (lot, no, list(models)),
