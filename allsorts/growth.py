@@ -36,7 +36,7 @@ class Growth:
     """A table of signs, the clauses over them, and why these stand there."""
 
     def __init__(self, is_wide):
-        """`is_wide` has it told, too, of what stands at one place whether it is the same, for whoever may ask."""
+        """`is_wide` has all told that anyone may ask for: what is the same at one place, what is in which set."""
         self.table = Table()
         self.search = Search(0)
         self.is_wide = is_wide
@@ -145,6 +145,8 @@ class Growth:
                 numbers.append(table.atom_places[sign])
             elif word == "same" and table.sorts[table.atom_places[sign][0]] == "set":
                 link(roots, table.atom_places[sign][0], table.atom_places[sign][1])
+        for number in table.sets if self.is_wide else []:
+            link(roots, table.sets[0], number)
         realms = {}
         for number in table.sets:
             realms.setdefault(root_of(roots, number), ([], {}))[0].append(number)

@@ -500,6 +500,48 @@ class MoreTest(Deciding):
         lot = tuple(row for row in told[2] if row[0][0] != "part" and set(terms_of(row[0])) <= own)
         self.assertEqual(refuted[-1], lot)
 
+    def test_what_is_decided_for_them(self):
+        """Whether those are the same at one place of calls, such calls, what tips are of, numbers in sets; all bits."""
+        z, w, v, t = name("z"), name("w"), name("v"), name("r", "tree")
+        sayings = [("most", f(X), f(Y)), ("in", z, S), ("same", T, ("one", w)), ("same", t, ("tip", X)),
+                   not_(("same", name("q", "tree"), ("tip", v))), ("bit", 1, A)]
+        wanted = [("same", X, Y), ("same", f(X), f(Y)), ("same", X, v), ("same", z, w)]
+        wanted += [("in", number, where) for number in (z, w) for where in (S, T, ("one", w))]
+        wanted += [("bit", at, A) for at in range(4)]
+        refuted = []
+        told = decide(sayings, more=[part(refute=refuted.append)])
+        self.assertEqual(told[0], "yes")
+        for atom in wanted:
+            self.assertIn(turned_right(atom), [atom for atom, _ in refuted[-1]])
+
+    def test_of_what_is_in_no_saying(self):
+        """No set has two numbers; f is the same only of the same: told by REFUTE alone."""
+        def lone(literals):
+            for one, other in itertools.combinations([row for row in literals if row[0][0] == "in" and row[1]], 2):
+                unlike_numbers = (turned_right(("same", one[0][1], other[0][1])), False)
+                if one[0][2] == other[0][2] and unlike_numbers in literals:
+                    return (clause_of([one, other, unlike_numbers]), "lone")
+            return None
+
+        def inject(literals):
+            for atom, truth in literals:
+                if truth and atom[0] == "same" and [term[:2] for term in atom[1:]] == [("call", "f")] * 2:
+                    against = (turned_right(("same", atom[1][2][0], atom[2][2][0])), False)
+                    if against in literals:
+                        return (clause_of([(atom, truth), against]), "inject")
+            return None
+
+        more = [part("lone", refute=lone, look=lambda lot, cert: cert == "lone"),
+                part("inject", refute=inject, look=lambda lot, cert: cert == "inject")]
+        sayings = [("most", f(X), f(Y)), ("most", f(Y), f(X)), ("most", X, n(1)), not_(("most", Y, n(1)))]
+        self.decided(sayings, "yes")
+        self.decided(sayings, "no", more)
+        self.decided(sayings[1:], "yes", more)
+        sayings = [("in", X, S), ("in", Y, T), ("same", ("union", S, T), ("union", U, ("none",))), not_(("most", X, Y))]
+        self.decided(sayings, "yes")
+        self.decided(sayings, "no", more)
+        self.decided(sayings[:3], "yes", more)
+
     def test_refute(self):
         """At most two things."""
         def refute(literals):
