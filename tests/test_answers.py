@@ -73,7 +73,8 @@ class FollowsTest(Refusing):
                               (("or()",), False), (("or()", "or()"), True), (("or()", "p?"), True),
                               (("most(x:num,y:num)", "most(y:num,x:num)", "same(f:tree(x:num),f:tree(y:num))"), True),
                               (("most(x:num,y:num)", "same(f:tree(x:num),f:tree(y:num))"), False),
-                              (("same(s:set,one(3))", "in(3,s:set)"), True), (("in(3,s:set)", "same(s:set,one(3))"), False)):
+                              (("same(s:set,one(3))", "in(3,s:set)"), True), (("in(3,s:set)", "same(s:set,one(3))"),
+                                                                              False)):
             sayings = read(*texts)
             self.assertIs(self.looked(sayings[:-1], sayings[-1]), wanted)
 
@@ -223,7 +224,8 @@ class CheckTest(unittest.TestCase):
                      ([(list(row[0]), row[1]) for row in rows], paper), ([(row[0], rows[0][1]) for row in rows], paper),
                      ([row + row for row in rows], paper), ([row[:1] for row in rows], paper), ([None] * 3, paper),
                      ([(tuple(int(truth) for truth in row[0]), row[1]) for row in rows], paper),
-                     ([(row[0][:1], row[1]) for row in rows], paper), ([(row[0] + row[0], row[1]) for row in rows], paper),
+                     ([(row[0][:1], row[1]) for row in rows], paper), ([(row[0] + row[0], row[1]) for row in rows],
+                                                                       paper),
                      ([(row[0], None) for row in rows], paper), (rows, paper[:-1]), (rows, list(paper)), (rows, ()),
                      (rows, None), [rows, paper], (rows, paper, paper), (rows,), None,
                      ([((False, False), Model())] + rows, paper)):
@@ -232,12 +234,14 @@ class CheckTest(unittest.TestCase):
         self.assertIs(check_answers([], self.ASKED, (rows, paper)), False)
         # Any models by which it is so will do.
         self.assertIs(good(([(answer, Model([("x", "num", (1, 2))], props=[prop for prop, truth in zip("pq", answer)
-                                                                         if truth])) for answer, _ in rows], paper)), True)
+                                                                         if truth])) for answer, _ in rows], paper)),
+                                                                         True)
 
     def test_anything(self):
         rows, paper = answers(self.SAYINGS, self.ASKED)
         for thing in wrong_things():
-            for told in (thing, (thing, paper), (rows, thing), ([thing], paper), ([(thing, rows[0][1])] + rows[1:], paper),
+            for told in (thing, (thing, paper), (rows, thing), ([thing], paper), ([(thing, rows[0][1])] + rows[1:],
+                                                                                  paper),
                          ([(rows[0][0], thing)] + rows[1:], paper), ([((thing, True), rows[0][1])], paper)):
                 self.assertIs(check_answers(self.SAYINGS, self.ASKED, told), False)
 

@@ -242,7 +242,8 @@ class LookTest(unittest.TestCase):
         self.assertIs(look_bits((same(X, X, False),), SAME), False)
         # Numbers have whatever values there, too.
         self.assertIs(look_bits((same(n(3), n(3), False),), SAME), True)
-        self.assertIs(look_bits(clause_of([same(A, n(3), False)] + [bit(at, A, at < 2) for at in range(4)]), SAME), False)
+        self.assertIs(look_bits(clause_of([same(A, n(3), False)] + [bit(at, A, at < 2) for at in range(4)]), SAME),
+                      False)
 
     def test_numbers(self):
         for value, at, truth in itertools.product(range(16), range(4), (True, False)):
@@ -271,7 +272,8 @@ class LookTest(unittest.TestCase):
         self.assertGreater(min(held.count(True), held.count(False)), 100)
         for one in (A, n(4), CALL):
             for truths in itertools.product((True, False, None), repeat=4):
-                lot = [row for row in zip([("bit", at, term) for at in (0, 3) for term in (one, ("bnot", one))], truths)]
+                lot = [row for row in zip([("bit", at, term) for at in (0, 3) for term in (one, ("bnot", one))],
+                                          truths)]
                 self.compared(clause_of([row for row in lot if row[1] is not None]), ("bnot", one))
 
     def test_no_other_atoms(self):

@@ -96,7 +96,8 @@ class DeskTest(unittest.TestCase):
         self.led(("said", "nothing"), ("depth", "1"), ("ask", "yes"), ("least", "nothing"), ("say p?", "done"),
                  ("push", "done"), ("depth", "2"), ("say not(p?)", "done"), ("said", "p? ; not(p?)"), ("ask", "no"),
                  ("least", "0 1"), ("follows q?", "yes"), ("holds p?", "no model"), ("value 3", "no model"),
-                 ("pop", "done"), ("holds p?", "no model"), ("ask", "yes"), ("holds p?", "yes"), ("holds not(p?)", "no"),
+                 ("pop", "done"), ("holds p?", "no model"), ("ask", "yes"), ("holds p?", "yes"), ("holds not(p?)",
+                                                                                                  "no"),
                  ("follows q?", "no"), ("follows or(p?,q?)", "yes"), ("value 3", "3"), ("least", "nothing"),
                  ("pop", "nothing"), ("depth", "1"), ("said", "p?"), ("holds p?", "yes"))
 
@@ -111,7 +112,8 @@ class DeskTest(unittest.TestCase):
                  ("value tip(x:num)", "tip(-3/2)"), ("value b:bits", "12"), ("value f:bits(s:set)", "3"),
                  ("value badd(b:bits,#5)", "1"), ("value o:thing", "0"), ("value y:tree", "tip(0)"),
                  # By the model a name of another sort has the plain value.
-                 ("value x:bits", "0"), ("value s:num", "0"), ("holds in(2,s:set)", "yes"), ("holds bit(3,b:bits)", "yes"))
+                 ("value x:bits", "0"), ("value s:num", "0"), ("holds in(2,s:set)", "yes"), ("holds bit(3,b:bits)",
+                                                                                             "yes"))
 
     def test_no_line(self):
         for line in ("", " ", "push ", " push", "push 1", "Push", "PUSH", "pop ", "pop 1", "ask ", "ask p?", "least ",
@@ -129,7 +131,8 @@ class DeskTest(unittest.TestCase):
         self.led(("said", "nothing"), ("depth", "1"), desk=desk)
 
     def test_bad_text(self):
-        for text, place in (("", 0), (" ", 0), (" p?", 0), ("p", 1), ("p? ", 2), ("p??", 2), ("and(p?,)", 7), ("x:num", 1),
+        for text, place in (("", 0), (" ", 0), (" p?", 0), ("p", 1), ("p? ", 2), ("p??", 2), ("and(p?,)", 7), ("x:num",
+                                                                                                               1),
                             ("most(x:num,s:set)", 17), ("not(p?", 6), ("same(x:num,3", 12)):
             for word in ("say", "holds", "follows"):
                 self.led((f"{word} {text}", f"bad text {place}"))
@@ -142,12 +145,14 @@ class DeskTest(unittest.TestCase):
                         ("say most(f:num(x:num,1),2)", "no fit call f"), ("follows in(1,x:set)", "no fit name x"),
                         ("follows most(f:num(s:set),1)", "no fit call f"), ("say same(y:num,y:num)", "done"),
                         ("follows and(p?,same(y:bits,#1))", "no fit name y"))
-        self.led(("said", "same(x:num,f:num(1)) ; same(y:num,y:num)"), ("say same(f:num(x:num),x:num)", "done"), desk=desk)
+        self.led(("said", "same(x:num,f:num(1)) ; same(y:num,y:num)"), ("say same(f:num(x:num),x:num)", "done"),
+                 desk=desk)
 
     def test_too_great(self):
         desk = self.led(*[("say p?", "done")] * 40)
         self.led(("ask", "yes"), ("follows p?", "too great"), ("say q?", "done"), ("ask", "too great"),
-                 ("least", "too great"), ("follows p?", "too great"), ("holds p?", "no model"), ("depth", "1"), desk=desk)
+                 ("least", "too great"), ("follows p?", "too great"), ("holds p?", "no model"), ("depth", "1"),
+                 desk=desk)
 
     def test_follows_of_what_has_no_not(self):
         deep = text_of(nots(11, ("prop", "p")))
@@ -168,7 +173,8 @@ class DeskTest(unittest.TestCase):
     def test_no_model(self):
         self.led(("value x:num", "no model"), ("holds p?", "no model"), ("ask", "yes"), ("holds p?", "no"),
                  ("push", "done"), ("holds p?", "no"), ("pop", "done"), ("holds p?", "no"), ("say p?", "done"),
-                 ("holds p?", "no model"), ("ask", "yes"), ("push", "done"), ("say q?", "done"), ("holds p?", "no model"),
+                 ("holds p?", "no model"), ("ask", "yes"), ("push", "done"), ("say q?", "done"), ("holds p?",
+                                                                                                  "no model"),
                  ("ask", "yes"), ("holds and(p?,q?)", "yes"), ("pop", "done"), ("value 1", "no model"),
                  # A bad text is told ahead.
                  ("value 1x", "bad text 1"), ("holds p", "bad text 1"))

@@ -320,7 +320,8 @@ class RefusedTest(unittest.TestCase):
             if not (type(thing) is tuple and len(thing) == 4 and thing[0] in ("name", "call")):
                 self.refused(BadValue, {"what": "more"}, [P], more=(thing,))
         for more in ([part("ties")], [part("bits")], [part("sums"), part()], [part(), part()], part(), {"x": part()},
-                     [part("a"), part("b"), part("a")], [part("say")], [part("rows")], [part("apart")], [part("Other")]):
+                     [part("a"), part("b"), part("a")], [part("say")], [part("rows")], [part("apart")],
+                     [part("Other")]):
             self.refused(BadValue, {"what": "more"}, [], more=more)
         for more in ([], (), [part("a"), part("b")], (part("abcdefgh"),)):
             self.assertEqual(decide([P], more=more)[0], "yes")
@@ -601,7 +602,8 @@ class MoreTest(Deciding):
     def test_bad_lemmas(self):
         good = (((P, True),), 1)
         for told in (None, (), (good,), True, "", {}, {good}, [None], [good, None], [()], [good[:1]], [good + (1,)],
-                     [list(good)], [((P, True), 1)], [([(P, True)], 1)], [(((P, 1),), 1)], [(((("part", 0), True),), 1)],
+                     [list(good)], [((P, True), 1)], [([(P, True)], 1)], [(((P, 1),), 1)], [(((("part", 0), True),),
+                                                                                             1)],
                      [(((Q, True), (P, True)), 1)], [(((P, False), (P, True)), 1)],
                      [(((("same", Y, X), True),), 1)], [(((("most", X, n(1)), True),), 1)],
                      [(((("most", X, f(n(1))), True),), 1)], [(((("in", name("n"), S), True),), 1)],
@@ -623,7 +625,8 @@ class MoreTest(Deciding):
     def test_bad_refutes(self):
         for told in ((), [], True, False, 0, "no", ((), 1, 1), [((P, True),), 1], (((P, True),),), ([(P, True)], 1),
                      (((P, False),), 1), (((Q, True),), 1), ((P, True), 1), (((("part", 0), True),), 1),
-                     (((P, True), (P, True)), 1), ((("same", X, Y), False), 1), (None, 1), (((("most", X, Y), True),), 1)):
+                     (((P, True), (P, True)), 1), ((("same", X, Y), False), 1), (None, 1), (((("most", X, Y), True),),
+                                                                                            1)):
             self.bad([part("refs", refute=lambda literals: told)])
         for thing in wrong_things():
             self.bad([part("refs", refute=lambda literals: thing if thing is not None else 0)])
@@ -660,7 +663,8 @@ class MoreTest(Deciding):
                 return self.told(*args)
 
         cert = {}
-        told = decide([P], more=[part("own", Places(lambda atoms: [(((P, False),), cert)]), Places(lambda literals: None),
+        told = decide([P], more=[part("own", Places(lambda atoms: [(((P, False),), cert)]),
+                                      Places(lambda literals: None),
                                       Places(lambda lot, found: found is cert and lot == ((P, True),)))])
         self.assertEqual(told[0], "no")
 

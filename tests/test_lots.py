@@ -51,7 +51,8 @@ class LotsTest(unittest.TestCase):
         return lot
 
     def test_arguments_and_files(self):
-        for name, wanted in (("least_lot", ["sayings"]), ("lot_paper", ["sayings"]), ("check_lot", ["sayings", "paper"])):
+        for name, wanted in (("least_lot", ["sayings"]), ("lot_paper", ["sayings"]), ("check_lot", ["sayings",
+                                                                                                    "paper"])):
             function = getattr(lots, name)
             self.assertEqual(function.__module__, "allsorts.lots")
             self.assertEqual(list(inspect.signature(function).parameters), wanted)
@@ -67,7 +68,8 @@ class LotsTest(unittest.TestCase):
         self.assertEqual(self.looked([Q, ("or", ()), P]), (1,))
         self.assertEqual(self.looked(read("most(x:num,y:num)", "p?", "most(y:num,z:num)", "q?",
                                           "not(most(x:num,z:num))")), (0, 2, 4))
-        self.assertEqual(self.looked(read("not(same(s:set,t:set))", "same(both(s:set,t:set),union(s:set,t:set))")), (0, 1))
+        self.assertEqual(self.looked(read("not(same(s:set,t:set))", "same(both(s:set,t:set),union(s:set,t:set))")), (0,
+                                                                                                                     1))
 
     def test_said_twice(self):
         for sayings in ([P, P, NOT_P, NOT_P], [P, ("not", NOT_P), Q, NOT_P], [("or", ()), ("or", ())],
@@ -125,10 +127,12 @@ class CheckTest(unittest.TestCase):
         self.assertIs(check_lot(self.SAYINGS, (lot, no, models)), True)
         self.assertIs(check_lot(tuple(self.SAYINGS), (lot, no, models)), True)
         other = Model(props=["q"])
-        for paper in (((3, 1), no, models), ((3, 1), no, models[::-1]), ((1,), no, models[:1]), ((1, 2, 3), no, models + models[:1]),
+        for paper in (((3, 1), no, models), ((3, 1), no, models[::-1]), ((1,), no, models[:1]), ((1, 2, 3), no,
+                                                                                                 models + models[:1]),
                       ((1, 1, 3), no, models[:1] + models), ((True, 3), no, models), ((1, 4), no, models),
                       ((-3, -1), no, models), ([1, 3], no, models), (lot, no[:-1], models), (lot, no[1:], models),
-                      (lot, no, models[::-1]), (lot, no, models[:1]), (lot, no, models + models), (lot, no, list(models)),
+                      (lot, no, models[::-1]), (lot, no, models[:1]), (lot, no, models + models), (lot, no,
+                                                                                                   list(models)),
                       (lot, list(no), models), (lot, no, (None, None)), (lot, no, (models[0], other)), (lot, no),
                       (lot, no, models, models), [lot, no, models], ((1.0, 3), no, models), (None, no, models),
                       (lot, None, models), (lot, no, None), ((), ((), ("rows",)), ()), ((), no, ())):

@@ -72,7 +72,8 @@ class FormTest(unittest.TestCase):
         with self.assertRaises(NoFit) as caught:
             check_no(unfit, PAPER, more=None)
         self.assertEqual((caught.exception.what, caught.exception.name), ("name", "y"))
-        for more in ([part("ties", None)], [part("a", None), part("a", None)], [part("say", None)], [None], part("a", len)):
+        for more in ([part("ties", None)], [part("a", None), part("a", None)], [part("say", None)], [None], part("a",
+                                                                                                                 len)):
             self.refused("more", [P], PAPER, more)
 
     def refused(self, what, sayings, paper, more):
@@ -185,7 +186,8 @@ class ApartTest(unittest.TestCase):
                         [within("z", S, True), within("z", ("none",), True), clause[-1]]), clause_of(
                             [within("z", S, True), within("z", T, True), opposed(clause[-1])]), clause[::-1]):
             self.assertIs(self.looked([(other, ("apart", "z"))]), False)
-        for why in (("apart", "y"), ("apart",), ("apart", "z", "z"), ("apart", "Z"), ("apart", "zzzzzzz"), ("apart", ""),
+        for why in (("apart", "y"), ("apart",), ("apart", "z", "z"), ("apart", "Z"), ("apart", "zzzzzzz"), ("apart",
+                                                                                                            ""),
                     ("apart", 1), ("apart", None), ("apart", ("name", "z", "num")), ("apart", Rude())):
             self.assertIs(self.looked([(clause, why)]), False)
         number = (("same", X, Y), True)

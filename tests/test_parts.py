@@ -55,7 +55,8 @@ class FormTest(unittest.TestCase):
             self.assertIs(again, part)
 
     def test_refused(self):
-        for thing in wrong_things() + ["", "tie", "tiesx", "Ties", "say", "rows", "apart", b"ties", ["ties"], ("ties",)]:
+        for thing in wrong_things() + ["", "tie", "tiesx", "Ties", "say", "rows", "apart", b"ties", ["ties"],
+                                       ("ties",)]:
             with self.assertRaises(BadValue) as caught:
                 part_of(thing)
             self.assertEqual(caught.exception.what, "word")

@@ -150,7 +150,8 @@ class DeedsTest(Leading):
         self.refused(NoFit, {"what": "name", "name": "x"}, solver.say, ("in", Y, ("name", "x", "set")))
         record.deed("say", False)
         self.same(solver, record)
-        self.refused(NoFit, {"what": "name", "name": "y"}, solver.say, ("same", X, ("call", "f", (("name", "y", "set"),),
+        self.refused(NoFit, {"what": "name", "name": "y"}, solver.say, ("same", X, ("call", "f", (("name", "y",
+                                                                                                   "set"),),
                                                                                    "num")))
         record.deed("say", False)
         self.same(solver, record)
