@@ -69,6 +69,8 @@ class Joint:
             number = self.search.follow()
             if number is not None:
                 self.search.turn(number)
+                if len(self.search.clauses) & 63 == 0:
+                    self.search.fade()
                 continue
             sign = self.search.free_sign()
             if sign is not None:
