@@ -2,6 +2,7 @@
 
 import inspect
 import itertools
+import math
 import random
 import unittest
 
@@ -45,6 +46,12 @@ def not_(saying):
 
 def unlike(*terms):
     return [not_(("same", one, other)) for one, other in itertools.combinations(terms, 2)]
+
+
+def reduced(point):
+    """Fractions in lowest terms."""
+    return {one: (over // math.gcd(over, under), under // math.gcd(over, under))
+            for one, (over, under) in point.items()}
 
 
 def packed(sayings):
@@ -116,6 +123,37 @@ class FewTest(Deciding):
         self.decided(packed(unlike(*calls)) + packed(bounds), "yes")
         at_one = [("most", n(0), one) for one in names] + [("most", one, n(0)) for one in names]
         self.decided(packed(unlike(*names)) + packed(at_one), "no")
+
+    def test_numbers_between_tight_bounds_and_unlike(self):
+        """Of a planted point bounds are told that it stands right at, or a little off; all numbers are unlike there."""
+        for seed in range(120):
+            chance = random.Random(11000 + seed)
+            names = [name("x" + letter) for letter in "abcde"]
+            point = {one: (chance.randint(-9, 9), chance.choice([1, 2, 3])) for one in names}
+            model = Model([(one[1], "num", value) for one, value in reduced(point).items()])
+            sayings = []
+            for _ in range(chance.randint(3, 12)):
+                one, other = chance.sample(names, 2)
+                less = ("plus", ("times", chance.randint(1, 3), one), ("times", chance.randint(-3, 3), other))
+                over, under = model.value(less)
+                edge = over // under + chance.choice([0, 0, 0, 1])
+                is_most = model.holds(("most", less, n(edge)))
+                sayings.append(("most", less, n(edge)) if is_most else ("most", n(edge), less))
+            sayings = [saying if chance.random() < 0.8 else not_(saying) for saying in sayings]
+            sayings = [saying if model.holds(saying) else not_(saying) for saying in sayings]
+            apart = [saying for saying in unlike(*names) if model.holds(saying)]
+            apart += [not_(("same", f(saying[1][1]), f(saying[1][2]))) for saying in apart]
+            apart = chance.sample(apart, chance.randint(0, len(apart)))
+            self.decided(packed(sayings) + packed(apart), "yes")
+
+    def test_fractions_in_sets(self):
+        texts = ["same(times(2,x:num),1)", "same(times(3,y:num),1)", "same(times(2,z:num),-3)"]
+        texts += ["same(times(5,w:num),-7)"]
+        texts += ["in(%s:num,s:set)" % letter for letter in "xyzw"] + ["in(1,s:set)", "not(in(0,s:set))"]
+        told = decide(read(*texts))
+        self.decided(read(*texts), "yes")
+        self.assertTrue({(1, 2), (1, 3), (-3, 2), (-7, 5), (1, 1)} <= set(told[1].value(S)))
+        self.decided(read(*texts, "same(f:set(s:set),union(s:set,one(2)))"), "yes")
 
     def test_calls_whose_places_come_to_the_same(self):
         same_sum = [("same", ("plus", X, Y), n(3)), ("same", ("plus", X, ("times", -1, Y)), n(1))]
