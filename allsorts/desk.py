@@ -2,7 +2,7 @@
 
 from allsorts.errors import BadText, BadValue, NoFit, Nothing, TooGreat
 from allsorts.reading import read_saying, read_term
-from allsorts.sayings import saying_text
+from allsorts.sayings import fit, saying_text
 from allsorts.solver import Solver
 from allsorts.terms import term_sort
 
@@ -77,11 +77,18 @@ class Desk:
             return "done"
         if word == "follows":
             return yes_or_no(self._solver.follows(saying)[0] == "follows")
+        self._check_fit(saying)
         model = self._solver.model()
         return "no model" if model is None else yes_or_no(model.holds(saying))
 
+    def _check_fit(self, saying):
+        """Refuses a SAYING that doesn't FIT with what STANDS; a model would tell of it all the same."""
+        fit(self._solver.said() + [saying])
+
     def _answer_value(self, term):
         """The answer to "value" and a term."""
+        # Only of sayings it is asked whether they fit: this one is a saying of whatever term, and fits where that does.
+        self._check_fit(("same", term, term))
         model = self._solver.model()
         return "no model" if model is None else text_of_value(model.value(term), term_sort(term))
 

@@ -9,9 +9,10 @@ from allsorts.errors import BadText, NoFit, Nothing, TooGreat
 from allsorts.reading import read_saying, read_term
 from allsorts.sayings import deep_of, is_saying, size_of, text_of
 from allsorts.solver import Solver
-from allsorts.terms import sort_of
+from allsorts.terms import is_term, sort_of
 from tests.drawn import Drawing
-from tests.samples import SAYINGS, TERMS, nots, wrong_things
+from tests.plain import inner_of
+from tests.samples import SAYINGS, TERMS, chain_of, nots, num_of, wrong_things
 
 
 def plain_fraction(fraction):
@@ -29,6 +30,38 @@ def plain_value(value, sort):
     if sort == "tree":
         return f"node({plain_value(value[1], 'tree')},{plain_value(value[2], 'tree')})"
     return str(value)
+
+
+def plain_conflict(sayings):
+    """The refusal of the first name, or call, that stands otherwise than ahead; None where there is none."""
+    ahead = {}
+
+    def walk(thing):
+        if thing[0] in ("name", "call"):
+            terms = thing[2] if thing[0] == "call" else ()
+            place = (thing[0], thing[1])
+            form = (tuple(sort_of(term) for term in terms), thing[-1])
+            if place in ahead and ahead[place] != form:
+                return "no fit " + " ".join(place)
+            ahead[place] = form
+        for inner in thing[1] if thing[0] in ("and", "or") else inner_of(thing):
+            told = walk(inner)
+            if told is not None:
+                return told
+        return None
+
+    for saying in sayings:
+        told = walk(saying)
+        if told is not None:
+            return told
+    return None
+
+
+def moved(thing):
+    """A thing of a drawing, in which names are called as those of another SORT are."""
+    if isinstance(thing, tuple) and thing[:1] == ("name",):
+        return ("name", "bcdea"["abcde".index(thing[1][0])] + thing[1][1:], thing[2])
+    return tuple(moved(part) for part in thing) if isinstance(thing, tuple) else thing
 
 
 class PlainDesk:
@@ -61,6 +94,9 @@ class PlainDesk:
                 if not is_saying(("not", thing)):
                     return "no line"
                 return "yes" if solver.follows(thing)[0] == "follows" else "no"
+            conflict = plain_conflict(solver.said() + [thing])
+            if conflict is not None:
+                return conflict
             if solver.model() is None:
                 return "no model"
             if word == "value":
@@ -111,9 +147,7 @@ class DeskTest(unittest.TestCase):
                  ("value without(s:set,one(2))", "{-3/2,5}"), ("value t:tree", "node(tip(-3/2),node(tip(0),tip(7)))"),
                  ("value tip(x:num)", "tip(-3/2)"), ("value b:bits", "12"), ("value f:bits(s:set)", "3"),
                  ("value badd(b:bits,#5)", "1"), ("value o:thing", "0"), ("value y:tree", "tip(0)"),
-                 # By the model a name of another sort has the plain value.
-                 ("value x:bits", "0"), ("value s:num", "0"), ("holds in(2,s:set)", "yes"), ("holds bit(3,b:bits)",
-                                                                                             "yes"))
+                 ("holds in(2,s:set)", "yes"), ("holds bit(3,b:bits)", "yes"))
 
     def test_no_line(self):
         for line in ("", " ", "push ", " push", "push 1", "Push", "PUSH", "pop ", "pop 1", "ask ", "ask p?", "least ",
@@ -147,6 +181,57 @@ class DeskTest(unittest.TestCase):
                         ("follows and(p?,same(y:bits,#1))", "no fit name y"))
         self.led(("said", "same(x:num,f:num(1)) ; same(y:num,y:num)"), ("say same(f:num(x:num),x:num)", "done"),
                  desk=desk)
+
+    def test_no_fit_of_what_is_asked_of_the_model(self):
+        rows = (("value x:set", "no fit name x"), ("value tip(plus(1,times(2,f:num(x:num,1))))", "no fit call f"),
+                ("value f:num(1)", "no fit call f"), ("value f:num(none())", "no fit call f"),
+                ("value f:set(1,none())", "no fit call f"), ("value f:num(none(),1)", "no fit call f"),
+                ("value f:num(1,none(),x:set)", "no fit call f"), ("value g:num(x:set,f:num(1))", "no fit name x"),
+                ("value g:num(f:num(1),x:set)", "no fit call f"), ("value g:num(g:num(x:set))", "no fit call g"),
+                ("holds in(1,x:set)", "no fit name x"), ("holds same(x:tree,x:tree)", "no fit name x"),
+                ("holds or(p?,not(most(f:num(1),x:num)))", "no fit call f"), ("holds in(1,f:set(1,none()))",
+                                                                              "no fit call f"),
+                ("holds and(same(s:bits,#1),same(x:bits,#1))", "no fit name s"),
+                # Within itself, of what doesn't stand at all.
+                ("value g:num(h:num,h:set)", "no fit name h"), ("value g:num(g:num(1,2))", "no fit call g"),
+                ("value node(tip(h:num),h:tree)", "no fit name h"), ("holds same(h:set,one(h:num))", "no fit name h"),
+                ("holds and(same(h:thing,h:thing),or(),bit(0,h:bits))", "no fit name h"),
+                ("holds and(most(g:num(1),1),most(1,g:num(#1)))", "no fit call g"))
+        first = "and(same(x:num,0),most(f:num(x:num,none()),3))"
+        desk = self.led((f"say {first}", "done"), ("push", "done"), ("say same(s:set,none())", "done"))
+        for ask in ((), (("ask", "yes"),)):
+            self.led(*ask, *rows, desk=desk)
+        self.led(("value x:num", "0"), ("holds most(f:num(x:num,s:set),3)", "yes"), ("value h:tree", "tip(0)"),
+                 ("holds in(h:num,h:set)", "no fit name h"), ("holds x?", "no"), ("value x:thing(1)", "0"),
+                 ("value f:bits", "0"), ("said", f"{first} ; same(s:set,none())"), ("depth", "2"),
+                 # What went stands no more, what came anew does.
+                 ("say in(1,s:set)", "done"), *rows, ("ask", "no"), *rows, ("value h:set", "no model"),
+                 ("value s:num", "no fit name s"), ("pop", "done"), ("value s:num", "no model"), ("ask", "yes"),
+                 ("value s:num", "0"), ("holds same(s:bits,#0)", "yes"), ("value x:set", "no fit name x"), desk=desk)
+
+    def test_no_fit_of_the_greatest(self):
+        term = ("plus", num_of(31), ("plus", num_of(6), ("name", "x", "num")))
+        self.assertEqual((size_of(term), is_term(("tip", term))), (40, False))
+        deep = chain_of(6)
+        self.assertEqual((deep_of(deep), is_term(("tip", deep))), (6, False))
+        saying = nots(9, ("same", ("name", "x", "num"), ("number", 1)))
+        self.assertEqual((deep_of(nots(1, saying)), is_saying(nots(2, saying))), (12, False))
+        for rows in ((), (("ask", "yes"),)):
+            self.led(("say same(x:set,none())", "done"), *rows, (f"value {text_of(term)}", "no fit name x"),
+                     (f"holds {text_of(nots(1, saying))}", "no fit name x"))
+        self.led((f"value {text_of(term)}", "no model"), (f"value {text_of(deep)}", "no model"), ("ask", "yes"),
+                 (f"value {text_of(term)}", plain_fraction(model_of_nothing().value(term))),
+                 (f"value {text_of(deep)}", plain_value(model_of_nothing().value(deep), sort_of(deep))))
+
+    def test_no_fit_ahead_and_behind(self):
+        # Behind bad texts and what is no line, ahead of no model and of too many that stand.
+        desk = self.led(*[("say same(x:num,1)", "done")] * 41)
+        self.led(("value x:set ", "bad text 5"), ("value plus(x:num,x:set)", "bad text 17"),
+                 ("values x:set", "no line"), ("value x:set\n", "no line"), ("holds in(1,x:set", "bad text 10"),
+                 ("holds x:set", "bad text 1"),
+                 ("value x:set", "no fit name x"), ("holds in(1,x:set)", "no fit name x"),
+                 ("follows in(1,x:set)", "no fit name x"), ("value x:num", "no model"), ("ask", "too great"),
+                 ("value x:set", "no fit name x"), ("value x:num", "no model"), desk=desk)
 
     def test_too_great(self):
         desk = self.led(*[("say p?", "done")] * 40)
@@ -198,17 +283,23 @@ class DeskTest(unittest.TestCase):
 
     def test_led_by_chance(self):
         met = set()
-        for seed in range(60):
+        for seed in range(80):
             chance = random.Random(60000 + seed)
             drawing = Drawing(chance)
             sayings = drawing.sayings(10, 2, 2)
+            other = Drawing(chance)
+            if seed % 2 == 1:
+                sayings += [moved(saying) for saying in other.sayings(6, 2, 2)]
             desk, plain = Desk(), PlainDesk()
             for _ in range(30):
                 word = chance.choice(["say", "say", "say", "push", "pop", "ask", "ask", "value", "holds", "least",
                                       "follows", "said", "depth"])
                 line = word
                 if word == "value":
-                    line = "value " + text_of(drawing.term(chance.choice(drawing.sorts), 2))
+                    term = drawing.term(chance.choice(drawing.sorts), 2)
+                    if seed % 2 == 1 and chance.random() < 0.5:
+                        term = moved(other.term(chance.choice(other.sorts), 2))
+                    line = "value " + text_of(term)
                 elif word in ("say", "holds", "follows"):
                     line = word + " " + text_of(chance.choice(sayings))
                 if chance.random() < 0.05:
@@ -216,10 +307,12 @@ class DeskTest(unittest.TestCase):
                 if line.split(" ")[0] in ("say", "value", "holds", "follows") and " " in line or line == word:
                     wanted = plain.say(line)
                     self.led((line, wanted), desk=desk)
-                    met.add(wanted.split(" ")[0])
+                    met.add((word, wanted[:6]))
                 else:
                     self.led((line, "no line"), desk=desk)
-        self.assertTrue({"done", "yes", "no", "nothing", "bad"} <= met)
+        self.assertTrue({(word, "no fit") for word in ("say", "value", "holds", "follows")} <= met)
+        self.assertTrue({("ask", "yes"), ("ask", "no"), ("holds", "yes"), ("holds", "no"), ("holds", "no mod"),
+                         ("value", "no mod"), ("pop", "nothin"), ("say", "bad te"), ("value", "bad te")} <= met)
 
 
 def model_of_nothing():
